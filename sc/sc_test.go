@@ -8,6 +8,7 @@ import (
 
 	"fencepost/api"
 	"fencepost/code"
+	"fencepost/samples"
 	"fencepost/sc"
 )
 
@@ -97,14 +98,6 @@ func stepped(p api.Prog, s api.State, thread int) (map[part]int, bool) {
 	return m, true
 }
 
-// alike: does the same stand in both? (An empty list may be nil or not.)
-func alike(s, q api.State) bool {
-	same := func(a, b api.Th) bool {
-		return a.At == b.At && a.Eq == b.Eq && slices.Equal(a.Regs, b.Regs) && slices.Equal(a.Buf, b.Buf)
-	}
-	return slices.Equal(s.Mem, q.Mem) && slices.EqualFunc(s.Ths, q.Ths, same)
-}
-
 // holdStep holds Step of this thread against the chapter's words, and P10.2 and P10.3, too.
 func holdStep(t *testing.T, p api.Prog, s api.State, thread int) (api.State, bool) {
 	t.Helper()
@@ -113,14 +106,14 @@ func holdStep(t *testing.T, p api.Prog, s api.State, thread int) (api.State, boo
 	if is != there || !reflect.DeepEqual(facts(q), want) {
 		t.Fatalf("thread %d of %+v in %+v: %+v %v, not %v %v", thread, p, s, q, is, want, there)
 	}
-	if !is && !alike(q, s) {
+	if !is && !samples.Alike(q, s) {
 		t.Fatalf("thread %d of %+v in %+v is not as it was: %+v", thread, p, s, q)
 	}
 	for i, th := range q.Ths {
 		if !slices.Equal(th.Buf, s.Ths[i].Buf) {
 			t.Fatalf("what is on its way: %+v, not %+v", q, s)
 		}
-		if i != thread && !alike(api.State{Ths: []api.Th{th}}, api.State{Ths: s.Ths[i : i+1]}) {
+		if i != thread && !samples.Alike(api.State{Ths: []api.Th{th}}, api.State{Ths: s.Ths[i : i+1]}) {
 			t.Fatalf("thread %d of %+v altered thread %d: %+v, not %+v", thread, p, i, q, s)
 		}
 	}
@@ -210,7 +203,7 @@ func TestBegins(t *testing.T) { // P10.1: J1
 		{one(api.Step{Op: api.OpImm, N: 9}), api.State{Mem: []int{5, 6}, Ths: []api.Th{{Regs: make([]int, 4)}}}},
 		{api.Prog{Init: []int{math.MinInt, 0, -1, math.MaxInt}, Threads: [][]api.Step{nil, {{Op: api.OpFence}}, nil}}, api.State{Mem: []int{math.MinInt, 0, -1, math.MaxInt}, Ths: []api.Th{{Regs: make([]int, 4)}, {Regs: make([]int, 4)}, {Regs: make([]int, 4)}}}},
 	} {
-		if s := sc.Begin(c.p); !alike(s, c.want) || !sc.Right(c.p, s) {
+		if s := sc.Begin(c.p); !samples.Alike(s, c.want) || !sc.Right(c.p, s) {
 			t.Errorf("%d: %+v", i, s)
 		}
 	}
@@ -250,7 +243,7 @@ func TestSteps(t *testing.T) { // P10.1: J2
 		if !code.Right(p) || !sc.Right(p, c.s) {
 			t.Fatalf("%d: not right", i)
 		}
-		if q, is := holdStep(t, p, c.s, 0); !is || !alike(q, c.after) {
+		if q, is := holdStep(t, p, c.s, 0); !is || !samples.Alike(q, c.after) {
 			t.Errorf("%d: %+v %v, not %+v", i, q, is, c.after)
 		}
 	}
@@ -261,7 +254,7 @@ func TestNoSteps(t *testing.T) { // P10.1: J2, wrong threads, and those at their
 	s := sc.Begin(p)
 	s.Ths[1].Regs[3], s.Ths[1].Eq, s.Ths[0].Buf = 7, true, []api.Write{{Loc: 0, N: 1}}
 	for _, thread := range []int{1, 2, 3, -1, -2, 1 << 32, math.MinInt, math.MaxInt} {
-		if q, is := holdStep(t, p, s, thread); is || !alike(q, s) {
+		if q, is := holdStep(t, p, s, thread); is || !samples.Alike(q, s) {
 			t.Errorf("%d: %+v %v", thread, q, is)
 		}
 	}
@@ -285,29 +278,9 @@ func TestNoSteps(t *testing.T) { // P10.1: J2, wrong threads, and those at their
 	}
 }
 
-// allSteps are all of each kind that two locations, and three steps, allow, with these numbers.
-func allSteps(numbers ...int) []api.Step {
-	l := []api.Step{{Op: api.OpFence}}
-	for to := 1; to <= 3; to++ {
-		l = append(l, api.Step{Op: api.OpJmp, To: to}, api.Step{Op: api.OpJe, To: to}, api.Step{Op: api.OpJne, To: to})
-	}
-	for reg := range 4 {
-		for loc := range 2 {
-			l = append(l, api.Step{Op: api.OpLoad, Reg: reg, Loc: loc}, api.Step{Op: api.OpStore, Reg: reg, Loc: loc}, api.Step{Op: api.OpXchg, Reg: reg, Loc: loc})
-		}
-		for _, n := range numbers {
-			l = append(l, api.Step{Op: api.OpImm, Reg: reg, N: n}, api.Step{Op: api.OpCmp, Reg: reg, N: n})
-		}
-	}
-	for _, n := range numbers {
-		l = append(l, api.Step{Op: api.OpPut, Loc: 0, N: n}, api.Step{Op: api.OpPut, Loc: 1, N: n})
-	}
-	return l
-}
-
 func TestAllSteps(t *testing.T) { // P10.1, P10.3
 	edges := []int{math.MinInt, -1 << 32, -1, 0, 1, 6, 1 << 32, math.MaxInt}
-	for _, x := range allSteps(edges...) {
+	for _, x := range samples.AllSteps(edges...) {
 		p := one(x, api.Step{Op: api.OpFence}, api.Step{Op: api.OpFence})
 		p.Threads = append(p.Threads, p.Threads[0])
 		if !code.Right(p) {
@@ -325,90 +298,27 @@ func TestAllSteps(t *testing.T) { // P10.1, P10.3
 	}
 }
 
-// dice throws numbers that are the same each time.
-type dice uint64
-
-// below is a number from 0 to n - 1.
-func (d *dice) below(n int) int {
-	*d = *d*6364136223846793005 + 1442695040888963407
-	return int(uint64(*d) >> 33 % uint64(n))
-}
-
-// steps are n of a thread, in a code of so many locations.
-func (d *dice) steps(n, locs int) []api.Step {
-	var l []api.Step
-	for at := range n {
-		x := api.Step{Op: api.OpImm + d.below(api.OpJne)}
-		if locs == 0 {
-			x.Op = []int{api.OpImm, api.OpFence, api.OpCmp, api.OpJmp, api.OpJe, api.OpJne}[d.below(6)]
-		}
-		switch x.Op {
-		case api.OpImm, api.OpCmp:
-			x.Reg, x.N = d.below(4), d.below(3)
-		case api.OpLoad, api.OpStore, api.OpXchg:
-			x.Reg, x.Loc = d.below(4), d.below(locs)
-		case api.OpPut:
-			x.Loc, x.N = d.below(locs), d.below(3)
-		case api.OpJmp, api.OpJe, api.OpJne:
-			x.To = at + 1 + d.below(min(n-at, 5))
-		}
-		l = append(l, x)
-	}
-	return l
-}
-
-// code is a right one.
-func (d *dice) code() api.Prog {
-	p := api.Prog{Init: make([]int, d.below(5))}
-	for loc := range p.Init {
-		p.Init[loc] = d.below(3)
-	}
-	for range 1 + d.below(3) {
-		p.Threads = append(p.Threads, d.steps([]int{0, 1, 4, 9, 40, 80}[d.below(6)], len(p.Init)))
-	}
-	return p
-}
-
-// state is a right one of p, perhaps one that no run comes to.
-func (d *dice) state(p api.Prog) api.State {
-	s := sc.Begin(p)
-	for loc := range s.Mem {
-		s.Mem[loc] = d.below(3)
-	}
-	for i := range s.Ths {
-		th := &s.Ths[i]
-		th.At, th.Eq = d.below(len(p.Threads[i])+1), d.below(2) == 0
-		for reg := range th.Regs {
-			th.Regs[reg] = d.below(3)
-		}
-		for range d.below(4) * len(s.Mem) {
-			th.Buf = append(th.Buf, api.Write{Loc: d.below(len(s.Mem)), N: d.below(3)})
-		}
-	}
-	return s
-}
-
 func TestManyCodes(t *testing.T) { // P10.1, P10.2, P10.3
-	d := dice(1)
+	d := samples.Dice(1)
 	kinds, taken := map[int]int{}, map[bool]int{}
 	for range 1500 {
-		p := d.code()
+		p := d.Code()
 		if !code.Right(p) {
 			t.Fatalf("not right: %+v", p)
 		}
 		most := 0
 		for i, steps := range p.Threads {
 			most += len(steps)
-			holdStep(t, p, d.state(p), i)
+			holdStep(t, p, d.State(p), i)
 		}
 		s := sc.Begin(p)
-		if d.below(2) == 0 {
-			s = d.state(p)
+		if d.Below(2) == 0 {
+			s = d.State(p)
 		}
 		// A run takes each step at most once, so that it ends.
 		many, open := 0, len(p.Threads)
 		for open > 0 {
-			thread := d.below(len(p.Threads))
+			thread := d.Below(len(p.Threads))
 			if at := s.Ths[thread].At; at < len(p.Threads[thread]) {
 				kinds[p.Threads[thread][at].Op]++
 			}
@@ -430,7 +340,7 @@ func TestManyCodes(t *testing.T) { // P10.1, P10.2, P10.3
 			t.Fatalf("%d steps, but there are %d: %+v", many, most, p)
 		}
 		for thread := range p.Threads {
-			if q, is := holdStep(t, p, s, thread); is || !alike(q, s) {
+			if q, is := holdStep(t, p, s, thread); is || !samples.Alike(q, s) {
 				t.Fatalf("a thread at its end steps: %+v, %+v", s, q)
 			}
 		}
@@ -446,32 +356,32 @@ func TestManyCodes(t *testing.T) { // P10.1, P10.2, P10.3
 }
 
 func TestManyStates(t *testing.T) { // P10.1: J1
-	d := dice(2)
+	d := samples.Dice(2)
 	met := map[bool]int{}
 	for range 20_000 {
-		p := d.code()
-		s := d.state(p)
+		p := d.Code()
+		s := d.State(p)
 		if !sc.Right(p, s) {
 			t.Fatalf("%+v: %+v", p, s)
 		}
-		i := d.below(len(s.Ths))
+		i := d.Below(len(s.Ths))
 		th := &s.Ths[i]
-		switch d.below(7) {
+		switch d.Below(7) {
 		case 0:
-			s.Mem = make([]int, d.below(6))
+			s.Mem = make([]int, d.Below(6))
 		case 1:
-			s.Ths = slices.Repeat(s.Ths, d.below(3))
+			s.Ths = slices.Repeat(s.Ths, d.Below(3))
 		case 2:
-			th.At = d.below(100) - 9
+			th.At = d.Below(100) - 9
 		case 3:
-			th.Regs = make([]int, d.below(6))
+			th.Regs = make([]int, d.Below(6))
 		case 4:
-			th.Buf = append(th.Buf, api.Write{Loc: d.below(6) - 1})
+			th.Buf = append(th.Buf, api.Write{Loc: d.Below(6) - 1})
 		case 5:
-			th.Buf = slices.Insert(th.Buf, 0, api.Write{Loc: d.below(6) - 1})
+			th.Buf = slices.Insert(th.Buf, 0, api.Write{Loc: d.Below(6) - 1})
 		case 6:
 			// A state of another code, which may be right for this one, too.
-			s = d.state(d.code())
+			s = d.State(d.Code())
 		}
 		got := sc.Right(p, s)
 		if got != right(p, s) {
@@ -502,55 +412,17 @@ func TestStatesOfAnySizeEnd(t *testing.T) { // P1
 	}
 }
 
-// roomy is a list with spare room in which x stands.
-func roomy[T any](x T, l ...T) []T { return append(l, x, x, x)[:len(l)] }
-
-// overwrite writes over all of a list, its spare room, too.
-func overwrite[T any](l []T, x T) {
-	l = l[:cap(l)]
-	for i := range l {
-		l[i] = x
-	}
-}
-
-// overwriteState writes over all of a state.
-func overwriteState(s api.State) {
-	overwrite(s.Mem, 77)
-	for _, th := range s.Ths {
-		overwrite(th.Regs, 77)
-		overwrite(th.Buf, api.Write{Loc: 77})
-	}
-	overwrite(s.Ths, api.Th{At: 77})
-}
-
 // codeWithRoom and stateWithRoom have spare room everywhere.
 func codeWithRoom() api.Prog {
-	steps := func(l ...api.Step) []api.Step { return roomy(api.Step{Op: 66}, l...) }
-	return api.Prog{Init: roomy(66, 5, 6), Threads: roomy(steps(), steps(api.Step{Op: api.OpXchg, Reg: 1, Loc: 1}), steps(), steps(api.Step{Op: api.OpPut, N: 9}, api.Step{Op: api.OpImm, Reg: 3, N: 4}, api.Step{Op: api.OpCmp, Reg: 3, N: 0}))}
+	steps := func(l ...api.Step) []api.Step { return samples.Roomy(api.Step{Op: 66}, l...) }
+	return api.Prog{Init: samples.Roomy(66, 5, 6), Threads: samples.Roomy(steps(), steps(api.Step{Op: api.OpXchg, Reg: 1, Loc: 1}), steps(), steps(api.Step{Op: api.OpPut, N: 9}, api.Step{Op: api.OpImm, Reg: 3, N: 4}, api.Step{Op: api.OpCmp, Reg: 3, N: 0}))}
 }
 
 func stateWithRoom(at int) api.State {
 	th := func(at int, l ...api.Write) api.Th {
-		return api.Th{At: at, Regs: roomy(66, 1, 2, 3, 4), Buf: roomy(api.Write{N: 66}, l...)}
+		return api.Th{At: at, Regs: samples.Roomy(66, 1, 2, 3, 4), Buf: samples.Roomy(api.Write{N: 66}, l...)}
 	}
-	return api.State{Mem: roomy(66, 7, 8), Ths: roomy(th(66), th(0, api.Write{Loc: 1, N: 3}), th(0), th(at, api.Write{N: 4}, api.Write{Loc: 1, N: 5}))}
-}
-
-// whole and wholeCode show all that there is, with the spare room of all lists.
-func whole(s api.State) []any {
-	all := []any{len(s.Mem), s.Mem[:cap(s.Mem)], len(s.Ths)}
-	for _, th := range s.Ths[:cap(s.Ths)] {
-		all = append(all, th.At, th.Eq, len(th.Regs), th.Regs[:cap(th.Regs)], len(th.Buf), th.Buf[:cap(th.Buf)])
-	}
-	return all
-}
-
-func wholeCode(p api.Prog) []any {
-	all := []any{len(p.Init), p.Init[:cap(p.Init)], len(p.Threads)}
-	for _, t := range p.Threads[:cap(p.Threads)] {
-		all = append(all, len(t), t[:cap(t)])
-	}
-	return all
+	return api.State{Mem: samples.Roomy(66, 7, 8), Ths: samples.Roomy(th(66), th(0, api.Write{Loc: 1, N: 3}), th(0), th(at, api.Write{N: 4}, api.Write{Loc: 1, N: 5}))}
 }
 
 func TestAnswersHangOnArgumentsAlone(t *testing.T) { // P3
@@ -560,18 +432,18 @@ func TestAnswersHangOnArgumentsAlone(t *testing.T) { // P3
 		for range 3 {
 			for thread := -1; thread <= 3; thread++ {
 				q, _ := holdStep(t, p, s, thread)
-				overwriteState(q)
+				samples.OverwriteState(q)
 			}
 			if !sc.Right(p, s) {
 				t.Fatalf("%+v", s)
 			}
 			first := sc.Begin(p)
-			if !alike(first, api.State{Mem: []int{5, 6}, Ths: slices.Repeat([]api.Th{{Regs: make([]int, 4)}}, 3)}) {
+			if !samples.Alike(first, api.State{Mem: []int{5, 6}, Ths: slices.Repeat([]api.Th{{Regs: make([]int, 4)}}, 3)}) {
 				t.Fatalf("%+v", first)
 			}
-			overwriteState(first)
+			samples.OverwriteState(first)
 		}
-		if !reflect.DeepEqual(whole(s), whole(stateWithRoom(at))) || !reflect.DeepEqual(wholeCode(p), wholeCode(codeWithRoom())) {
+		if !reflect.DeepEqual(samples.WholeState(s), samples.WholeState(stateWithRoom(at))) || !reflect.DeepEqual(samples.WholeCode(p), samples.WholeCode(codeWithRoom())) {
 			t.Fatalf("what was handed in was changed: %+v, %+v", p, s)
 		}
 	}
@@ -583,16 +455,16 @@ func TestAnswersAreKeptByNobody(t *testing.T) { // P3
 	swapped, _ := sc.Step(p, s, 0)
 	same, _ := sc.Step(p, s, 1)
 	none, _ := sc.Step(p, s, 5)
-	overwriteState(s)
-	overwrite(p.Init, 77)
+	samples.OverwriteState(s)
+	samples.Overwrite(p.Init, 77)
 	for _, q := range []api.State{same, none} {
-		if !alike(q, stateWithRoom(0)) {
+		if !samples.Alike(q, stateWithRoom(0)) {
 			t.Errorf("%+v", q)
 		}
 	}
 	want := stateWithRoom(0)
 	want.Mem[1], want.Ths[0].Regs[1], want.Ths[0].At = 2, 8, 1
-	if !alike(swapped, want) || !slices.Equal(first.Mem, []int{5, 6}) {
+	if !samples.Alike(swapped, want) || !slices.Equal(first.Mem, []int{5, 6}) {
 		t.Errorf("%+v, %+v", swapped, first)
 	}
 }
@@ -608,7 +480,7 @@ func TestNoTwoListsShareRoom(t *testing.T) { // P3
 			lists = append(lists, th.Regs)
 		}
 		for k, l := range lists {
-			overwrite(l, 100+k)
+			samples.Overwrite(l, 100+k)
 		}
 		for k, l := range lists {
 			if slices.ContainsFunc(l, func(n int) bool { return n != 100+k }) {
