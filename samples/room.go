@@ -1,6 +1,10 @@
 package samples
 
-import "fencepost/api"
+import (
+	"slices"
+
+	"fencepost/api"
+)
 
 // Roomy is a list with spare room in which x stands.
 func Roomy[T any](x T, l ...T) []T { return append(l, x, x, x)[:len(l)] }
@@ -21,6 +25,28 @@ func OverwriteState(s api.State) {
 		Overwrite(th.Buf, api.Write{Loc: 77})
 	}
 	Overwrite(s.Ths, api.Th{At: 77})
+}
+
+// Apart: do no two lists of a state share room? It writes over all of them.
+func Apart(s api.State) bool {
+	rows, bufs := [][]int{s.Mem}, [][]api.Write{}
+	for _, th := range s.Ths {
+		rows, bufs = append(rows, th.Regs), append(bufs, th.Buf)
+	}
+	return apart(rows, func(k int) int { return k }) && apart(bufs, func(k int) api.Write { return api.Write{N: k} })
+}
+
+// apart: do no two of these lists share room? Each is written over with a mark of its own.
+func apart[T comparable](lists [][]T, mark func(int) T) bool {
+	for k, l := range lists {
+		Overwrite(l, mark(100+k))
+	}
+	for k, l := range lists {
+		if slices.ContainsFunc(l[:cap(l)], func(x T) bool { return x != mark(100+k) }) {
+			return false
+		}
+	}
+	return true
 }
 
 // WholeState is all that there is of a state, with the spare room of all its lists.

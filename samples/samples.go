@@ -27,6 +27,16 @@ func AllSteps(numbers ...int) []api.Step {
 	return l
 }
 
+// Clone is a state in which the same stands, and that shares no list with s.
+func Clone(s api.State) api.State {
+	c := api.State{Mem: slices.Clone(s.Mem)}
+	for _, th := range s.Ths {
+		th.Regs, th.Buf = slices.Clone(th.Regs), slices.Clone(th.Buf)
+		c.Ths = append(c.Ths, th)
+	}
+	return c
+}
+
 // Alike: does the same stand in both states? (An empty list may be nil or not.)
 func Alike(s, q api.State) bool {
 	return slices.Equal(s.Mem, q.Mem) && slices.EqualFunc(s.Ths, q.Ths, AlikeThreads)

@@ -15,16 +15,6 @@ import (
 
 // The chapter's words once more, each asked for by itself.
 
-// clone is a state that shares no list with s.
-func clone(s api.State) api.State {
-	c := api.State{Mem: slices.Clone(s.Mem)}
-	for _, th := range s.Ths {
-		th.Regs, th.Buf = slices.Clone(th.Regs), slices.Clone(th.Buf)
-		c.Ths = append(c.Ths, th)
-	}
-	return c
-}
-
 // seen is what a thread takes a location to have: the newest write of its own that is on its way, or else what is there.
 func seen(s api.State, thread, loc int) int {
 	n := s.Mem[loc]
@@ -38,7 +28,7 @@ func seen(s api.State, thread, loc int) int {
 
 // drained is what a drain is to make.
 func drained(s api.State, thread int) (api.State, bool) {
-	q := clone(s)
+	q := samples.Clone(s)
 	if len(s.Ths[thread].Buf) == 0 {
 		return q, false
 	}
@@ -49,7 +39,7 @@ func drained(s api.State, thread int) (api.State, bool) {
 
 // stepped is what a step is to make: each kind of step says what it needs, and what it alters.
 func stepped(p api.Prog, s api.State, thread int) (api.State, bool) {
-	q := clone(s)
+	q := samples.Clone(s)
 	th := &q.Ths[thread]
 	if th.At >= len(p.Threads[thread]) {
 		return q, false
@@ -83,7 +73,7 @@ func stepped(p api.Prog, s api.State, thread int) (api.State, bool) {
 func picked(p api.Prog, s api.State, k api.Pick) (api.State, bool) {
 	switch {
 	case !slices.Contains([]int{0, 1, 2}[:len(p.Threads)], k.Thread):
-		return clone(s), false
+		return samples.Clone(s), false
 	case k.Drain:
 		return drained(s, k.Thread)
 	}
@@ -173,7 +163,7 @@ func holdPicks(t *testing.T, p api.Prog, s api.State) []api.Pick {
 // holdFlush holds Flush of this thread against its drains.
 func holdFlush(t *testing.T, p api.Prog, s api.State, thread int) api.State {
 	t.Helper()
-	want := clone(s)
+	want := samples.Clone(s)
 	for is := 0 <= thread && thread < len(s.Ths); is; {
 		want, is = drained(want, thread)
 	}
@@ -620,25 +610,8 @@ func TestAnswersAreKeptByNobody(t *testing.T) { // P3
 func TestNoTwoListsShareRoom(t *testing.T) { // P3
 	p, s := codeWithRoom(), stateWithRoom(0)
 	for i, q := range answers(p, s) {
-		rows, bufs := [][]int{q.Mem}, [][]api.Write{}
-		for _, th := range q.Ths {
-			rows, bufs = append(rows, th.Regs), append(bufs, th.Buf)
-		}
-		for k, l := range rows {
-			samples.Overwrite(l, 100+k)
-		}
-		for k, b := range bufs {
-			samples.Overwrite(b, api.Write{N: 100 + k})
-		}
-		for k, l := range rows {
-			if slices.ContainsFunc(l, func(n int) bool { return n != 100+k }) {
-				t.Errorf("%d: %v", i, rows)
-			}
-		}
-		for k, b := range bufs {
-			if slices.ContainsFunc(b, func(w api.Write) bool { return w.N != 100+k }) {
-				t.Errorf("%d: %v", i, bufs)
-			}
+		if !samples.Apart(q) {
+			t.Errorf("%d: %+v", i, q)
 		}
 	}
 }
