@@ -38,13 +38,19 @@ func (d *Dice) Steps(n, locs int) []api.Step {
 }
 
 // Code is a right one.
-func (d *Dice) Code() api.Prog {
+func (d *Dice) Code() api.Prog { return d.codeOf(0, 1, 4, 9, 40, 80) }
+
+// ShortCode is a right one that still is, when fences are put into all of its slots.
+func (d *Dice) ShortCode() api.Prog { return d.codeOf(0, 1, 4, 9, 14, 40) }
+
+// codeOf is a right code whose threads are each of one of these lengths.
+func (d *Dice) codeOf(lengths ...int) api.Prog {
 	p := api.Prog{Init: make([]int, d.Below(5))}
 	for loc := range p.Init {
 		p.Init[loc] = d.Below(3)
 	}
 	for range 1 + d.Below(3) {
-		p.Threads = append(p.Threads, d.Steps([]int{0, 1, 4, 9, 40, 80}[d.Below(6)], len(p.Init)))
+		p.Threads = append(p.Threads, d.Steps(lengths[d.Below(len(lengths))], len(p.Init)))
 	}
 	return p
 }
