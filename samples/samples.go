@@ -1,4 +1,4 @@
-// Package samples makes codes and states for the tests of several layers, always the same ones, and tells what stands in them.
+// Package samples makes codes, states and rows of ends for the tests of several layers, always the same ones, and tells what stands in them.
 package samples
 
 import (
